@@ -1,0 +1,1 @@
+"""Tiechances: ties that hold by chances."""
