@@ -1,6 +1,8 @@
 """Things that the tests hand in, and webs made for them."""
 
 import itertools
+import unittest
+from fractions import Fraction
 
 
 def nested(wrap, depth):
@@ -48,9 +50,20 @@ def plain_things():
     ] + deep_things()
 
 
+class Touchy:
+    """A thing that bears no comparing, no counting and no going through."""
+
+    def fail(self, *handed):
+        raise AssertionError("this thing was looked into")
+
+    __eq__ = __ne__ = __lt__ = __gt__ = __le__ = __ge__ = __hash__ = fail
+    __len__ = __iter__ = __getitem__ = __contains__ = __bool__ = __index__ = fail
+
+
 def strange_things():
     """Things of kinds that only a refusal takes in."""
     return [
+        Touchy(), (Touchy(),), (Touchy(), Touchy()),
         1.0, 0.0, float("nan"), float("inf"), 1j, b"", b"01", set(), {0},
         frozenset(), frozenset((0,)), range(0), range(2), object(), object,
         len, iter(()), bytearray(b"0"), NotImplemented, ...,
@@ -87,11 +100,44 @@ def lots_of(many):
     return found
 
 
+def chances_of(web, start):
+    """Some chances of the web, others for another start."""
+    kinds = ((1, 2), (2, 3), (0, 1), (997, 1000), (1, 1), (3, 7), (1, 1000), (5, 6),
+             (499, 997), (1, 991), (999, 1000), (4, 9), (982, 983))
+    return tuple(kinds[(start + 5 * at) % len(kinds)] for at in range(len(web[1])))
+
+
 FULL = (6, ((0, 1), (0, 1), (0, 5), (1, 2), (2, 3), (2, 3), (3, 4), (4, 5)))
 PATH = (4, ((0, 1), (1, 2), (2, 3)))
 TWINS = (3, ((0, 1), (0, 1), (1, 2)))
 LONE = (1, ())
 EMPTY = (6, ())
+TRIANGLE = (3, ((0, 1), (0, 2), (1, 2)))
+# Two pieces that no tie joins, and a place without ties.
+APART = (6, ((0, 2), (0, 2), (0, 4), (1, 5), (2, 4)))
+ALIKE = (2, ((0, 1),) * 8)
+
+# Webs of many ties: too many webs are such to go through all of them.
+GREAT = (
+    FULL, APART, ALIKE,
+    (4, ((0, 1), (0, 2), (0, 3), (1, 2), (1, 3), (2, 3))),
+    (4, ((0, 1), (0, 1), (0, 3), (0, 3), (1, 2), (1, 3), (2, 3), (2, 3))),
+    (5, ((0, 1), (0, 2), (0, 3), (0, 4), (1, 2), (1, 4), (2, 3), (3, 4))),
+    (5, ((0, 4), (0, 4), (0, 4), (1, 3), (1, 4), (2, 3), (2, 4), (3, 4))),
+    (6, ((0, 1), (0, 5), (1, 2), (1, 4), (2, 3), (2, 5), (3, 4), (4, 5))),
+    (6, ((0, 3), (0, 4), (0, 5), (1, 3), (1, 4), (1, 5), (2, 3), (2, 4))),
+    (6, ((1, 3), (1, 3), (1, 4), (3, 4), (3, 4), (3, 5), (4, 5), (4, 5))),
+    (3, ((0, 1), (0, 1), (0, 2), (0, 2), (0, 2), (1, 2), (1, 2), (1, 2))),
+)
+
+# One place and two, some, and all, as far as a web has them.
+SOME_PLACES = ((0,), (5,), (0, 1), (1, 3), (4, 5), (0, 2, 4), (1, 2, 3))
+
+
+def places_of(web):
+    """Some places of the web: one, two, more, all."""
+    found = [places for places in SOME_PLACES if places[-1] < web[0]]
+    return found + [tuple(range(web[0]))]
 
 
 def wrong_webs():
@@ -151,3 +197,147 @@ def wrong_webs():
 
 def no_webs():
     return list(wrong_webs().values()) + plain_things() + strange_things()
+
+
+def wrong_chances():
+    """Chances of which just one thing is otherwise, by what that is."""
+    return {
+        "not lowest": (2, 4),
+        "not lowest, by three": (3, 9),
+        "not lowest, by a great number": (499, 998),
+        "nought not lowest": (0, 2),
+        "nought of 1000": (0, 1000),
+        "one not lowest": (2, 2),
+        "1000 of 1000": (1000, 1000),
+        "top above bottom": (3, 2),
+        "top above a bottom of 1": (2, 1),
+        "top far above bottom": (10 ** 30 - 1, 1000),
+        "top below nought": (-1, 2),
+        "top below nought, bottom 1": (-1, 1),
+        "both below nought": (-1, -2),
+        "bottom of nought": (0, 0),
+        "1 of nought": (1, 0),
+        "bottom below nought": (1, -2),
+        "nought of a bottom below nought": (0, -1),
+        "bottom of 1001": (1, 1001),
+        "bottom of 1001, top 1000": (1000, 1001),
+        "bottom far too great": (1, 10 ** 30 - 1),
+        "a truth for top": (True, 2),
+        "a falsehood for top": (False, 1),
+        "a truth for bottom": (1, True),
+        "nought of a truth": (0, True),
+        "a falsehood for bottom": (0, False),
+        "two truths": (True, True),
+        "a list": [1, 2],
+        "a list for top": ([1], 2),
+        "a list for bottom": (1, [2]),
+        "a tuple for top": ((1,), 2),
+        "a text": "12",
+        "a text for top": ("1", 2),
+        "a text for bottom": (1, "2"),
+        "None for top": (None, 2),
+        "None for bottom": (1, None),
+        "a dict": {1: 1, 2: 2},
+        "one number more": (1, 2, 3),
+        "one number fewer": (1,),
+        "nothing": (),
+        "a number": 1,
+    }
+
+
+def reached(web, lot, start):
+    """All places to which the lot's ties lead from start, by walking."""
+    seen = {start}
+    while True:
+        more = set(seen)
+        for number in lot:
+            pair = set(web[1][number])
+            if pair & seen:
+                more |= pair
+        if more == seen:
+            return seen
+        seen = more
+
+
+def is_good(web, lot, places):
+    """Whether the places hang together by the lot, by walking."""
+    return set(places) <= reached(web, lot, places[0])
+
+
+def rest_of(web, lot):
+    return tuple(number for number in range(len(web[1])) if number not in lot)
+
+
+def as_tuple(fraction):
+    return (fraction.numerator, fraction.denominator)
+
+
+def walked_chance(chances, lot):
+    """The chance that just the ties of the lot hold."""
+    found = Fraction(1)
+    for number, (top, bottom) in enumerate(chances):
+        found *= Fraction(top, bottom) if number in lot else 1 - Fraction(top, bottom)
+    return found
+
+
+def summed_share(web, chances, places):
+    """The share of the places, lot by lot."""
+    return sum((walked_chance(chances, lot) for lot in lots_of(len(web[1]))
+                if is_good(web, lot, places)), Fraction(0))
+
+
+def not_rising_below(many):
+    """What is no rising tuple of some of many numbers, many 3 or more."""
+    return [
+        (1, 0), (0, 0), (2, 1), (0, 2, 1), (0, 1, 1), (many,), (0, many),
+        (-1,), (-1, 0), (10 ** 30 - 1,), (1 - 10 ** 30,),
+        [], [0], [0, 1], (True,), (False,), (False, True), (0, True),
+        (False, 1), True, False, 0, 1, None, "", "0", {}, {0: 0}, ("0",),
+        (0, "1"), (None,), (0, None), ([0],), ((0,),), (0, (1,)), ((),),
+        (0, [], {}), ({},),
+    ]
+
+
+def no_lots(web):
+    """What is no lot of a web with three ties or more."""
+    return not_rising_below(len(web[1]))
+
+
+def no_places(web):
+    """What is no places of a web with three places or more."""
+    return not_rising_below(web[0]) + [()]
+
+
+def no_numbers(web):
+    """What is no number of a tie of the web."""
+    many = len(web[1])
+    things = [many, many + 1, -1, -many - 1, 8, 10 ** 30 - 1, 1 - 10 ** 30, 0.5, "1",
+              [0], (0,), (0, 1)]
+    wholes = [thing for thing in plain_things()
+              if isinstance(thing, bool) or not isinstance(thing, int)]
+    return things + wholes + strange_things()
+
+
+def no_chances(web):
+    """What is no chances of a web with three ties or more."""
+    many = len(web[1])
+    fine = ((1, 2),) * many
+    found = [fine[1:], fine + ((1, 2),), list(fine), (1, 2), (1,) * many, "1/2" * many,
+             {number: (1, 2) for number in range(many)}]
+    for wrong in wrong_chances().values():
+        found.extend([fine[1:] + (wrong,), (wrong,) + fine[1:]])
+    return found + plain_things() + strange_things()
+
+
+def plainly_none():
+    """Things that are neither a lot nor places of any web."""
+    wholes = [thing for thing in plain_things() if thing not in ((1,),)]
+    return wholes + strange_things()
+
+
+class Asking(unittest.TestCase):
+    def assertRefused(self, refusal, ask, *handed):
+        with self.assertRaises(refusal) as caught:
+            ask(*handed)
+        self.assertEqual(type(caught.exception), refusal)
+        self.assertNotEqual(str(caught.exception), "")

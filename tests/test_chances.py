@@ -2,59 +2,13 @@ import copy
 import unittest
 
 from tests.samples import (
-    EMPTY, FULL, LONE, PATH, TWINS, no_webs, plain_things, small_webs,
+    EMPTY, FULL, LONE, PATH, TWINS, Asking, no_webs, plain_things, small_webs, wrong_chances,
 )
 from tiechances.chances import are_chances, is_chance
 from tiechances.errors import NoWeb
 
 
-def wrong_chances():
-    """Chances of which just one thing is otherwise, by what that is."""
-    return {
-        "not lowest": (2, 4),
-        "not lowest, by three": (3, 9),
-        "not lowest, by a great number": (499, 998),
-        "nought not lowest": (0, 2),
-        "nought of 1000": (0, 1000),
-        "one not lowest": (2, 2),
-        "1000 of 1000": (1000, 1000),
-        "top above bottom": (3, 2),
-        "top above a bottom of 1": (2, 1),
-        "top far above bottom": (10 ** 30 - 1, 1000),
-        "top below nought": (-1, 2),
-        "top below nought, bottom 1": (-1, 1),
-        "both below nought": (-1, -2),
-        "bottom of nought": (0, 0),
-        "1 of nought": (1, 0),
-        "bottom below nought": (1, -2),
-        "nought of a bottom below nought": (0, -1),
-        "bottom of 1001": (1, 1001),
-        "bottom of 1001, top 1000": (1000, 1001),
-        "bottom far too great": (1, 10 ** 30 - 1),
-        "a truth for top": (True, 2),
-        "a falsehood for top": (False, 1),
-        "a truth for bottom": (1, True),
-        "nought of a truth": (0, True),
-        "a falsehood for bottom": (0, False),
-        "two truths": (True, True),
-        "a list": [1, 2],
-        "a list for top": ([1], 2),
-        "a list for bottom": (1, [2]),
-        "a tuple for top": ((1,), 2),
-        "a text": "12",
-        "a text for top": ("1", 2),
-        "a text for bottom": (1, "2"),
-        "None for top": (None, 2),
-        "None for bottom": (1, None),
-        "a dict": {1: 1, 2: 2},
-        "one number more": (1, 2, 3),
-        "one number fewer": (1,),
-        "nothing": (),
-        "a number": 1,
-    }
-
-
-class IsChance(unittest.TestCase):
+class IsChance(Asking):
     def test_ordinary(self):
         for thing in ((1, 2), (2, 3), (1, 3), (5, 7), (7, 12), (99, 100)):
             self.assertIs(is_chance(thing), True, thing)
@@ -101,7 +55,7 @@ class IsChance(unittest.TestCase):
             self.assertIs(is_chance(thing), told)
 
 
-class AreChances(unittest.TestCase):
+class AreChances(Asking):
     def test_as_many_as_there_are_ties(self):
         for web in small_webs() + [FULL]:
             many = len(web[1])
@@ -146,9 +100,7 @@ class AreChances(unittest.TestCase):
     def test_no_web(self):
         for web in no_webs():
             for thing in ((), None, ((1, 2),)):
-                with self.assertRaises(NoWeb) as caught:
-                    are_chances(web, thing)
-                self.assertEqual(type(caught.exception), NoWeb)
+                self.assertRefused(NoWeb, are_chances, web, thing)
 
     def test_nothing_is_changed_and_the_answer_stays(self):
         for thing in plain_things() + [((1, 2), (1, 2), (1, 2))]:

@@ -60,6 +60,11 @@ def bound_names(tree):
     return found
 
 
+def defined_names(tree):
+    """Names of the functions and classes of a file."""
+    return [node.name for node in tree.body if isinstance(node, (ast.FunctionDef, ast.ClassDef))]
+
+
 class Form(unittest.TestCase):
     def test_the_folder_holds_python_files_only(self):
         found = [path for path in FOLDER.iterdir() if path.name != "__pycache__"]
@@ -110,6 +115,45 @@ class Form(unittest.TestCase):
             for bound in bound_names(tree):
                 self.assertRegex(bound, r"\A([A-Za-z][A-Za-z0-9_]*|__[a-z]+__)\Z", name)
                 self.assertFalse(hasattr(builtins, bound), (name, bound))
+
+    def test_no_function_class_or_import_is_bound_again(self):
+        for name, tree in trees():
+            taken = defined_names(tree)
+            for node in tree.body:
+                if isinstance(node, ast.ImportFrom):
+                    taken.extend(alias.asname or alias.name for alias in node.names)
+            bound = bound_names(tree)
+            for one in taken:
+                self.assertEqual(bound.count(one), 1, (name, one))
+
+    def test_every_import_names_the_file_that_defines_it(self):
+        defined = {name[:-3]: defined_names(tree) for name, tree in trees()}
+        for name, node in nodes(ast.ImportFrom):
+            for alias in node.names:
+                self.assertIn(alias.name, defined[node.module.split(".")[1]], name)
+
+    def test_no_file_imports_itself_through_others(self):
+        ahead = {name: set() for name, tree in trees()}
+        for name, node in nodes(ast.ImportFrom):
+            ahead[name].add(node.module.split(".")[1] + ".py")
+        while ahead:
+            free = [name for name in ahead if not ahead[name] & set(ahead)]
+            self.assertNotEqual(free, [], ahead)
+            for name in free:
+                del ahead[name]
+
+    def test_no_set_is_gone_through(self):
+        for name, node in nodes((ast.For, ast.comprehension)):
+            self.assertNotIsInstance(node.iter, (ast.Set, ast.SetComp), name)
+
+    def test_numbers_and_texts(self):
+        for name, node in nodes(ast.BinOp):
+            if isinstance(node.op, ast.Pow):
+                self.assertTrue(isinstance(node.right, ast.Constant)
+                                and 0 <= node.right.value <= 64, name)
+        for name, node in nodes(ast.Constant):
+            if isinstance(node.value, str):
+                self.assertNotIn("%", node.value, name)
 
     def test_builtins_are_those_of_the_language(self):
         for name, node in nodes(ast.Name):

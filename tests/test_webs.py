@@ -3,69 +3,15 @@ import itertools
 import unittest
 
 from tests.samples import (
-    EMPTY, FULL, LONE, PATH, TWINS, all_ties, lots_of, no_webs, plain_things,
-    small_webs, strange_things, wrong_webs,
+    EMPTY, FULL, LONE, PATH, TWINS, Asking, all_ties, is_good, lots_of, no_lots,
+    no_places, no_webs, plain_things, plainly_none, reached, small_webs, wrong_webs,
 )
 from tiechances.errors import NoLot, NoPlaces, NoWeb
 from tiechances.webs import hangs, is_web, pieces_by
 
 
-def reached(web, lot, start):
-    """All places to which the lot's ties lead from start, by walking."""
-    seen = {start}
-    while True:
-        more = set(seen)
-        for number in lot:
-            pair = set(web[1][number])
-            if pair & seen:
-                more |= pair
-        if more == seen:
-            return seen
-        seen = more
-
-
 def pieces_walked(web, lot):
     return sorted({tuple(sorted(reached(web, lot, k))) for k in range(web[0])})
-
-
-def no_lots(web):
-    """What is no lot of a web with three ties or more."""
-    many = len(web[1])
-    return [
-        (1, 0), (0, 0), (2, 1), (0, 2, 1), (0, 1, 1), (many,), (0, many),
-        (-1,), (-1, 0), (10 ** 30 - 1,), (1 - 10 ** 30,),
-        [], [0], [0, 1], (True,), (False,), (False, True), (0, True),
-        (False, 1), True, False, 0, 1, None, "", "0", {}, {0: 0}, ("0",),
-        (0, "1"), (None,), (0, None), ([0],), ((0,),), (0, (1,)), ((),),
-        (0, [], {}), ({},),
-    ]
-
-
-def no_places(web):
-    """What is no places of a web with three places or more."""
-    many = web[0]
-    return [
-        (), (1, 0), (0, 0), (2, 1), (0, 2, 1), (0, 1, 1), (many,), (0, many),
-        (-1,), (-1, 0), (10 ** 30 - 1,), (1 - 10 ** 30,),
-        [], [0], [0, 1], (True,), (False,), (False, True), (0, True),
-        (False, 1), True, False, 0, 1, None, "", "0", {}, {0: 0}, ("0",),
-        (0, "1"), (None,), (0, None), ([0],), ((0,),), (0, (1,)), ((),),
-        (0, [], {}), ({},),
-    ]
-
-
-def plainly_none():
-    """Things that are neither a lot nor places of any web."""
-    wholes = [thing for thing in plain_things() if thing not in ((1,),)]
-    return wholes + strange_things()
-
-
-class Asking(unittest.TestCase):
-    def assertRefused(self, refusal, ask, *handed):
-        with self.assertRaises(refusal) as caught:
-            ask(*handed)
-        self.assertEqual(type(caught.exception), refusal)
-        self.assertNotEqual(str(caught.exception), "")
 
 
 class IsWeb(Asking):
@@ -206,7 +152,7 @@ class Hangs(Asking):
         for web in small_webs():
             for lot in lots_of(len(web[1])):
                 for places in lots_of(web[0])[1:]:
-                    due = set(places) <= reached(web, lot, places[0])
+                    due = is_good(web, lot, places)
                     self.assertIs(hangs(web, lot, places), due, (web, lot, places))
 
     def test_the_answer_stays(self):

@@ -1,15 +1,10 @@
 """Chances, and chances of a web."""
 
+from tiechances.errors import NoChances
+from tiechances.fracs import common_divisor
 from tiechances.webs import check_web, is_whole
 
 MOST_BOTTOM = 1000
-
-
-def common_divisor(one, other):
-    """The greatest number that divides both; other is above 0."""
-    while other > 0:
-        one, other = other, one % other
-    return one
 
 
 def is_chance(thing):
@@ -30,3 +25,9 @@ def are_chances(web, thing):
     if not isinstance(thing, tuple) or len(thing) != len(web[1]):
         return False
     return all([is_chance(chance) for chance in thing])
+
+
+def check_chances(web, thing):
+    """Refuse with NoWeb what is no web, then with NoChances what is no chances of it."""
+    if not are_chances(web, thing):
+        raise NoChances("these are no chances of the web")

@@ -1,6 +1,6 @@
 """Webs, their lots and places, and what hangs together by a lot."""
 
-from tiechances.errors import NoLot, NoPlaces, NoWeb
+from tiechances.errors import NoLot, NoPlaces, NoTie, NoWeb
 
 MOST_PLACES = 6
 MOST_TIES = 8
@@ -70,6 +70,12 @@ def check_places(web, thing):
         raise NoPlaces("these are no places of the web")
 
 
+def check_number(web, thing):
+    """Refuse with NoTie what is no number of a tie of the web."""
+    if not is_below(thing, len(web[1])):
+        raise NoTie("this is no number of a tie of the web")
+
+
 def marks_by(web, lot):
     """For each place a mark, the same for two just where they hang together."""
     many, ties = web
@@ -93,10 +99,15 @@ def pieces_by(web, lot):
     return [tuple(group) for group in groups.values()]
 
 
+def are_joined(web, lot, places):
+    """Whether all these places hang together; what is handed in is not checked."""
+    marks = marks_by(web, lot)
+    return all([marks[place] == marks[places[0]] for place in places])
+
+
 def hangs(web, lot, places):
     """Whether all these places hang together by the lot."""
     check_web(web)
     check_lot(web, lot)
     check_places(web, places)
-    marks = marks_by(web, lot)
-    return all([marks[place] == marks[places[0]] for place in places])
+    return are_joined(web, lot, places)

@@ -1,0 +1,28 @@
+import itertools
+import unittest
+from fractions import Fraction
+
+from tests.samples import as_tuple
+from tiechances.fracs import lack, lowest, plus, times
+
+FRACTIONS = ((0, 1), (1, 1), (1, 2), (2, 3), (3, 4), (5, 6), (999, 1000), (-1, 2), (-7, 3),
+             (10 ** 24 - 1, 10 ** 24))
+
+
+class Fracs(unittest.TestCase):
+    def test_lowest(self):
+        for top, bottom in itertools.product(range(-12, 13), range(1, 13)):
+            self.assertEqual(lowest(top, bottom), as_tuple(Fraction(top, bottom)))
+
+    def test_sums_and_products(self):
+        for one, other in itertools.product(FRACTIONS, repeat=2):
+            self.assertEqual(plus(one, other), as_tuple(Fraction(*one) + Fraction(*other)))
+            self.assertEqual(times(one, other), as_tuple(Fraction(*one) * Fraction(*other)))
+
+    def test_what_lacks_to_1(self):
+        for one in FRACTIONS:
+            self.assertEqual(lack(one), as_tuple(1 - Fraction(*one)))
+
+
+if __name__ == "__main__":
+    unittest.main()
