@@ -1,5 +1,6 @@
 """Things that the tests hand in, and webs made for them."""
 
+import functools
 import itertools
 import unittest
 from fractions import Fraction
@@ -106,6 +107,11 @@ def chances_of(web, start):
              (499, 997), (1, 991), (999, 1000), (4, 9), (982, 983))
     return tuple(kinds[(start + 5 * at) % len(kinds)] for at in range(len(web[1])))
 
+
+# Bottoms of which no two have a divisor in common.
+PRIMES = ((990, 991), (996, 997), (1, 983), (976, 977), (500, 971), (966, 967), (2, 953), (946, 947))
+# The chances of so many ties, all of them one half.
+HALVES = {many: ((1, 2),) * many for many in range(9)}
 
 FULL = (6, ((0, 1), (0, 1), (0, 5), (1, 2), (2, 3), (2, 3), (3, 4), (4, 5)))
 PATH = (4, ((0, 1), (1, 2), (2, 3)))
@@ -264,6 +270,25 @@ def is_good(web, lot, places):
     return set(places) <= reached(web, lot, places[0])
 
 
+@functools.lru_cache(maxsize=None)
+def walked_good(web, places):
+    """All lots that are good for the places, rising, by walking."""
+    return tuple(lot for lot in sorted(lots_of(len(web[1]))) if is_good(web, lot, places))
+
+
+@functools.lru_cache(maxsize=None)
+def walked_cuts(web, places):
+    """All cuts for the places, rising, by walking."""
+    return tuple(lot for lot in sorted(lots_of(len(web[1])))
+                 if not is_good(web, rest_of(web, lot), places))
+
+
+def least_by_parts(lots):
+    """Those lots of which no other one is a part, whatever is left out."""
+    return [lot for lot in lots
+            if not any(set(other) < set(lot) for other in lots)]
+
+
 def rest_of(web, lot):
     return tuple(number for number in range(len(web[1])) if number not in lot)
 
@@ -282,8 +307,22 @@ def walked_chance(chances, lot):
 
 def summed_share(web, chances, places):
     """The share of the places, lot by lot."""
-    return sum((walked_chance(chances, lot) for lot in lots_of(len(web[1]))
-                if is_good(web, lot, places)), Fraction(0))
+    return sum((walked_chance(chances, lot) for lot in walked_good(web, places)), Fraction(0))
+
+
+def chances_put(chances, number, chance):
+    """The chances with another one for the tie of this number."""
+    found = list(chances)
+    found[number] = chance
+    return tuple(found)
+
+
+def orders_of(web):
+    """Some orders of the numbers of the web's ties; all, where there are few ties."""
+    ties = list(range(len(web[1])))
+    if len(ties) <= 3:
+        return [list(order) for order in itertools.permutations(ties)]
+    return [ties, ties[::-1], ties[::2] + ties[1::2], ties[4:] + ties[:4]]
 
 
 def not_rising_below(many):
@@ -341,3 +380,24 @@ class Asking(unittest.TestCase):
             ask(*handed)
         self.assertEqual(type(caught.exception), refusal)
         self.assertNotEqual(str(caught.exception), "")
+
+    def assertInOrder(self, ask, right, *steps):
+        """Each step (refusal, at, things) is due ahead of the later ones.
+
+        The right arguments are refused with things in their place at the step's
+        place, whether what the later steps look at is right or, as None, wrong.
+        """
+        for step, (refusal, at, things) in enumerate(steps):
+            for thing in things:
+                handed = list(right)
+                handed[at] = thing
+                self.assertRefused(refusal, ask, *handed)
+                for later in steps[:step:-1]:
+                    handed[later[1]] = None
+                    self.assertRefused(refusal, ask, *handed)
+
+    def assertFraction(self, told):
+        """A tuple of two whole numbers in lowest terms."""
+        self.assertIs(type(told), tuple)
+        self.assertEqual([type(number) for number in told], [int, int])
+        self.assertEqual(as_tuple(Fraction(*told)), told)

@@ -5,7 +5,7 @@ import unittest
 from tests.samples import (
     ALIKE, APART, EMPTY, FULL, GREAT, LONE, PATH, TRIANGLE, TWINS, Asking, Touchy,
     as_tuple, chances_of, is_good, lots_of, nested, no_chances, no_numbers, no_places,
-    no_webs, places_of, plain_things, plainly_none, rest_of, small_webs, strange_things,
+    no_webs, orders_of, places_of, plain_things, plainly_none, rest_of, small_webs, strange_things,
     summed_share,
 )
 from tiechances.cases import case_paper, case_shows, drawn, is_case_paper, without
@@ -44,19 +44,12 @@ def whole_paper(web, places, order, held=()):
             whole_paper(web, places, later, held))
 
 
-def orders(web):
-    ties = list(range(len(web[1])))
-    if len(ties) <= 3:
-        return [list(order) for order in itertools.permutations(ties)]
-    return [ties, ties[::-1], ties[::2] + ties[1::2], ties[4:] + ties[:4]]
-
-
 def asked():
     """Webs with places, and papers of them by several orders of the ties."""
     found = []
     for web in small_webs()[::5] + [PATH, TRIANGLE, TWINS, LONE, EMPTY] + list(GREAT):
         for places in places_of(web):
-            for order in orders(web):
+            for order in orders_of(web):
                 found.append((web, places, paper_by(web, places, order)))
     return found
 
@@ -204,7 +197,7 @@ class RightPapers(Asking):
         self.assertIs(is_case_paper(APART, (0, 1), ("tie", 3, NO, ("tie", 0, NO, NO))), True)
         for web in [PATH, TRIANGLE, TWINS] + list(GREAT):
             for places in places_of(web):
-                for order in orders(web):
+                for order in orders_of(web):
                     paper = whole_paper(web, places, order)
                     self.assertIs(is_case_paper(web, places, paper), True, (web, places))
 

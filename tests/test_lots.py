@@ -2,18 +2,13 @@ import unittest
 
 from tests.samples import (
     ALIKE, APART, EMPTY, FULL, GREAT, LONE, PATH, TRIANGLE, TWINS, Asking, is_good,
-    lots_of, no_places, no_webs, places_of, plainly_none, rest_of, small_webs,
+    least_by_parts, lots_of, no_places, no_webs, places_of, plainly_none, rest_of,
+    small_webs,
 )
 from tiechances.errors import NoPlaces, NoWeb
 from tiechances.lots import cuts, good_lots, least_cuts, least_good
 
 ALL_FOUR = (good_lots, least_good, cuts, least_cuts)
-
-
-def least_by_parts(lots):
-    """Those lots of which no other one is a part, whatever is left out."""
-    return [lot for lot in lots
-            if not any(set(other) < set(lot) for other in lots)]
 
 
 def asked():

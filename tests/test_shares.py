@@ -2,16 +2,12 @@ import unittest
 from fractions import Fraction
 
 from tests.samples import (
-    ALIKE, APART, EMPTY, FULL, GREAT, LONE, PATH, TRIANGLE, TWINS, Asking, as_tuple,
-    chances_of, is_good, lots_of, no_chances, no_lots, no_places, no_webs, places_of,
-    plainly_none, reached, small_webs, summed_share, walked_chance,
+    ALIKE, APART, EMPTY, FULL, GREAT, HALVES, LONE, PATH, PRIMES, TRIANGLE, TWINS, Asking,
+    as_tuple, chances_of, is_good, lots_of, no_chances, no_lots, no_places, no_webs,
+    places_of, plainly_none, reached, small_webs, summed_share, walked_chance,
 )
 from tiechances.errors import NoChances, NoLot, NoPlaces, NoWeb
 from tiechances.shares import lot_chance, pieces_shares, share
-
-# Bottoms of which no two have a divisor in common.
-PRIMES = ((990, 991), (996, 997), (1, 983), (976, 977), (500, 971), (966, 967), (2, 953), (946, 947))
-HALVES = {many: ((1, 2),) * many for many in range(9)}
 
 
 def pieces_counted(web, lot):
@@ -206,10 +202,6 @@ class PiecesShares(Asking):
 
 
 class Kinds(Asking):
-    def assertFraction(self, told):
-        self.assertIs(type(told), tuple)
-        self.assertEqual([type(number) for number in told], [int, int])
-
     def test_fractions_are_tuples_of_two_whole_numbers(self):
         for web, chances in asked():
             self.assertFraction(share(web, chances, (0,)))

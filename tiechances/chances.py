@@ -1,6 +1,6 @@
 """Chances, and chances of a web."""
 
-from tiechances.errors import NoChances
+from tiechances.errors import NoChance, NoChances
 from tiechances.fracs import common_divisor
 from tiechances.webs import check_web, is_whole
 
@@ -27,7 +27,18 @@ def are_chances(web, thing):
     return all([is_chance(chance) for chance in thing])
 
 
+def check_chance(thing):
+    """Refuse with NoChance what is no chance."""
+    if not is_chance(thing):
+        raise NoChance("this is no chance")
+
+
 def check_chances(web, thing):
     """Refuse with NoWeb what is no web, then with NoChances what is no chances of it."""
     if not are_chances(web, thing):
         raise NoChances("these are no chances of the web")
+
+
+def with_chance(chances, number, chance):
+    """The chances where the tie of this number has that chance."""
+    return chances[:number] + (chance,) + chances[number + 1:]

@@ -27,6 +27,11 @@ def least_of(lots):
     return [lot for lot in lots if not any([less in known for less in one_left_out(lot)])]
 
 
+def is_cut(web, lot, places):
+    """Whether the lot is a cut for the places; what is handed in is not checked."""
+    return not are_joined(web, other_ties(web, lot), places)
+
+
 def good_lots(web, places):
     """The rising list of all lots that are good for the places."""
     check_web(web)
@@ -43,7 +48,7 @@ def cuts(web, places):
     """The rising list of all lots that are cuts for the places."""
     check_web(web)
     check_places(web, places)
-    return [lot for lot in all_lots(web) if not are_joined(web, other_ties(web, lot), places)]
+    return [lot for lot in all_lots(web) if is_cut(web, lot, places)]
 
 
 def least_cuts(web, places):

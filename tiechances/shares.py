@@ -30,12 +30,16 @@ def lot_chance(web, chances, lot):
     return lowest(lot_top(chances, lot), all_bottoms(chances))
 
 
+def lots_share(chances, lots):
+    """How likely it is that the ties that hold are one of the lots."""
+    return lowest(sum([lot_top(chances, lot) for lot in lots]), all_bottoms(chances))
+
+
 def share(web, chances, places):
     """The chance that the places hang together."""
     check_chances(web, chances)
     check_places(web, places)
-    top = sum([lot_top(chances, lot) for lot in good_lots(web, places)])
-    return lowest(top, all_bottoms(chances))
+    return lots_share(chances, good_lots(web, places))
 
 
 def pieces_shares(web, chances):

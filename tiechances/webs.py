@@ -43,13 +43,21 @@ def is_web(thing):
     return is_whole(many) and 1 <= many <= MOST_PLACES and are_ties(ties, many)
 
 
+def rises(things):
+    """Whether each of the things is greater than the one ahead; they must compare."""
+    return all([one < other for one, other in zip(things, things[1:])])
+
+
 def is_rising_below(thing, many):
     """Whether thing is a rising tuple of numbers from 0 to many - 1."""
     if not isinstance(thing, tuple):
         return False
-    if not all([is_below(number, many) for number in thing]):
-        return False
-    return all([one < other for one, other in zip(thing, thing[1:])])
+    return all([is_below(number, many) for number in thing]) and rises(thing)
+
+
+def is_lot(web, thing):
+    """Whether thing is a lot of the web."""
+    return is_rising_below(thing, len(web[1]))
 
 
 def check_web(thing):
@@ -60,7 +68,7 @@ def check_web(thing):
 
 def check_lot(web, thing):
     """Refuse with NoLot what is no lot of the web."""
-    if not is_rising_below(thing, len(web[1])):
+    if not is_lot(web, thing):
         raise NoLot("this is no lot of the web")
 
 
@@ -74,6 +82,11 @@ def check_number(web, thing):
     """Refuse with NoTie what is no number of a tie of the web."""
     if not is_below(thing, len(web[1])):
         raise NoTie("this is no number of a tie of the web")
+
+
+def all_places(web):
+    """All places of the web."""
+    return tuple(range(web[0]))
 
 
 def marks_by(web, lot):
