@@ -347,14 +347,29 @@ def no_places(web):
     return not_rising_below(web[0]) + [()]
 
 
-def no_numbers(web):
-    """What is no number of a tie of the web."""
-    many = len(web[1])
+def not_below(many):
+    """What is none of the numbers below many, many at most 8."""
     things = [many, many + 1, -1, -many - 1, 8, 10 ** 30 - 1, 1 - 10 ** 30, 0.5, "1",
               [0], (0,), (0, 1)]
-    wholes = [thing for thing in plain_things()
+    others = [thing for thing in plain_things()
               if isinstance(thing, bool) or not isinstance(thing, int)]
-    return things + wholes + strange_things()
+    return things + others + strange_things()
+
+
+def no_numbers(web):
+    """What is no number of a tie of the web."""
+    return not_below(len(web[1]))
+
+
+def no_place_things(web):
+    """What is no place of the web."""
+    return not_below(web[0])
+
+
+def no_chance_things():
+    """What is no chance."""
+    plain = [thing for thing in plain_things() if thing != (1, 1)]
+    return list(wrong_chances().values()) + plain + strange_things()
 
 
 def no_chances(web):

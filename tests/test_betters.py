@@ -4,8 +4,8 @@ from fractions import Fraction
 
 from tests.samples import (
     ALIKE, APART, EMPTY, FULL, GREAT, HALVES, LONE, PATH, PRIMES, TRIANGLE, TWINS, Asking, as_tuple,
-    chances_of, chances_put, no_chances, no_numbers, no_places, no_webs, places_of,
-    plain_things, plainly_none, small_webs, strange_things, summed_share, wrong_chances,
+    chances_of, chances_put, no_chance_things, no_chances, no_numbers, no_places, no_webs,
+    places_of, plainly_none, small_webs, summed_share,
 )
 from tiechances.betters import best_raise, best_tie, gain, worths
 from tiechances.errors import NoChance, NoChances, NoPlaces, NoTie, NoWeb
@@ -37,11 +37,6 @@ def summed_gains(web, chances, places, chance):
     before = summed_share(web, chances, places)
     return [summed_share(web, chances_put(chances, number, chance), places) - before
             for number in range(len(chances))]
-
-
-def no_chance_things():
-    plain = [thing for thing in plain_things() if thing != (1, 1)]
-    return list(wrong_chances().values()) + plain + strange_things()
 
 
 class Worths(Asking):

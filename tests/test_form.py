@@ -32,6 +32,26 @@ WORDS = re.compile(
 )
 
 
+# L25: the methods of builtin values that the package may call.
+METHODS = set(
+    "append clear copy count endswith extend find get index insert isalnum isalpha isdigit"
+    " islower isspace isupper items join keys ljust lower lstrip partition pop remove replace"
+    " reverse rfind rjust rpartition rsplit rstrip setdefault split splitlines startswith strip"
+    " update upper values zfill bit_length".split()
+)
+
+# L17: names that are given to nothing.
+NAMES = set(
+    "attrgetter breakpoint builtins compile copyright credits delattr dir eval exec exit gc"
+    " getattr globals hasattr help id importlib license locals methodcaller os quit setattr"
+    " super type vars sys version_info with_traceback add_note".split()
+)
+
+# L23: what is gone through on the spot, and by what.
+ROWS = ("zip", "enumerate", "reversed", "range", "items", "keys", "values")
+TAKERS = ("list", "tuple", "dict", "sorted", "sum", "any", "all", "enumerate", "zip", "min", "max")
+
+
 def sources():
     return [(path, path.read_text("ascii")) for path in sorted(FOLDER.glob("*.py"))]
 
@@ -43,6 +63,28 @@ def trees():
 def nodes(kind):
     return [(name, node) for name, tree in trees() for node in ast.walk(tree)
             if isinstance(node, kind)]
+
+
+def called(node):
+    """The name by which a function or a method is called, None where nothing is."""
+    if not isinstance(node, ast.Call):
+        return None
+    return node.func.id if isinstance(node.func, ast.Name) else node.func.attr
+
+
+def with_parents():
+    """Tuples (file, node, the node it stands in)."""
+    return [(name, child, node) for name, node in nodes(ast.AST)
+            for child in ast.iter_child_nodes(node)]
+
+
+def is_plain_value(node, above):
+    """L3: whether the value is written out, of plain values and functions above."""
+    if isinstance(node, ast.Dict):
+        return all(is_plain_value(part, above) for part in node.keys + node.values)
+    if isinstance(node, (ast.Tuple, ast.List)):
+        return all(is_plain_value(part, above) for part in node.elts)
+    return isinstance(node, ast.Constant) or isinstance(node, ast.Name) and node.id in above
 
 
 def bound_names(tree):
@@ -61,8 +103,10 @@ def bound_names(tree):
 
 
 def defined_names(tree):
-    """Names of the functions and classes of a file."""
-    return [node.name for node in tree.body if isinstance(node, (ast.FunctionDef, ast.ClassDef))]
+    """Names of the functions, classes and values of a file."""
+    found = [node.name for node in tree.body if isinstance(node, (ast.FunctionDef, ast.ClassDef))]
+    return found + [target.id for node in tree.body if isinstance(node, ast.Assign)
+                    for target in node.targets]
 
 
 class Form(unittest.TestCase):
@@ -114,7 +158,7 @@ class Form(unittest.TestCase):
         for name, tree in trees():
             for bound in bound_names(tree):
                 self.assertRegex(bound, r"\A([A-Za-z][A-Za-z0-9_]*|__[a-z]+__)\Z", name)
-                self.assertFalse(hasattr(builtins, bound), (name, bound))
+                self.assertNotIn(bound, vars(builtins), name)
 
     def test_no_function_class_or_import_is_bound_again(self):
         for name, tree in trees():
@@ -141,6 +185,62 @@ class Form(unittest.TestCase):
             self.assertNotEqual(free, [], ahead)
             for name in free:
                 del ahead[name]
+
+    def test_module_level(self):
+        for name, tree in trees():
+            above = []
+            for at, node in enumerate(tree.body):
+                if isinstance(node, (ast.FunctionDef, ast.ClassDef)):
+                    above.append(node.name)
+                elif isinstance(node, ast.Assign):
+                    self.assertEqual(len(node.targets), 1, name)
+                    self.assertTrue(is_plain_value(node.value, above), (name, node.lineno))
+                    inner = list(ast.walk(node.value))[1:]
+                    self.assertFalse([one for one in inner if isinstance(one, (ast.List, ast.Dict))])
+                elif not isinstance(node, ast.ImportFrom):
+                    self.assertEqual(at, 0, name)
+                    self.assertIsInstance(node.value.value, str, name)
+
+    def test_methods_and_attributes(self):
+        methods = {node.name for _, kind in nodes(ast.ClassDef) for node in kind.body
+                   if isinstance(node, ast.FunctionDef)}
+        stored = {node.attr for _, node in nodes(ast.Attribute) if isinstance(node.ctx, ast.Store)}
+        self.assertEqual(methods & stored, set())
+        for name, node, parent in with_parents():
+            if isinstance(node, ast.Attribute):
+                is_called = isinstance(parent, ast.Call) and parent.func == node
+                known = METHODS | methods if is_called else stored
+                self.assertIn(node.attr, known, (name, node.lineno))
+
+    def test_keywords_and_stars(self):
+        for name, node in nodes((ast.keyword, ast.AnnAssign, ast.Lambda, ast.Try)):
+            self.fail((name, node))
+        for name, node, parent in with_parents():
+            if isinstance(node, ast.Starred):
+                self.assertIsInstance(parent, ast.Tuple, name)
+                self.assertIsInstance(node.ctx, ast.Store, name)
+
+    def test_rows_are_gone_through_on_the_spot(self):
+        for name, node, parent in with_parents():
+            if called(node) in ROWS:
+                self.assertTrue(
+                    isinstance(parent, (ast.For, ast.comprehension)) and parent.iter == node
+                    or called(parent) in TAKERS, (name, node.lineno))
+
+    def test_an_error_is_made_where_it_is_raised(self):
+        refusals = {node.name for _, node in nodes(ast.ClassDef)} - {"Desk", "ChanceError"}
+        for name, node in nodes(ast.Raise):
+            self.assertIn(called(node.exc), refusals, (name, node.lineno))
+            self.assertEqual([type(part.value) for part in node.exc.args], [str], name)
+
+    def test_names_that_are_given_to_nothing(self):
+        for name, tree in trees():
+            self.assertEqual(NAMES & set(bound_names(tree)), set(), name)
+
+    def test_sets_stand_in_len_only(self):
+        for name, node, parent in with_parents():
+            if isinstance(node, (ast.Set, ast.SetComp)) or called(node) in ("set", "frozenset"):
+                self.assertEqual(called(parent), "len", (name, node.lineno))
 
     def test_no_set_is_gone_through(self):
         for name, node in nodes((ast.For, ast.comprehension)):

@@ -3,7 +3,9 @@
 from tiechances.chances import check_chances
 from tiechances.errors import NoPaper
 from tiechances.fracs import lack, plus, times
-from tiechances.webs import are_joined, check_number, check_places, check_web, is_whole
+from tiechances.webs import (
+    are_joined, check_number, check_places, check_web, closed_up, is_whole, renamed,
+)
 
 
 def without(web, number):
@@ -17,19 +19,12 @@ def without(web, number):
 def name_drawn(place, tie):
     """The number that the place has where the two places of the tie are one."""
     stays, goes = tie
-    if place == goes:
-        return stays
-    return place - 1 if place > goes else place
+    return stays if place == goes else closed_up(place, goes)
 
 
 def drawn_ties(ties, names, tie):
-    """Tuples (a, b, old number) of the ties that stay, as they are ordered then."""
-    found = []
-    for old, (a, b) in enumerate(ties):
-        if (a, b) != tie:
-            low, high = sorted((names[a], names[b]))
-            found.append((low, high, old))
-    return sorted(found)
+    """Tuples (tie, old number) of the ties that stay, as they are ordered then."""
+    return sorted([(renamed(kept, names), old) for old, kept in enumerate(ties) if kept != tie])
 
 
 def drawn(web, number):
@@ -39,8 +34,8 @@ def drawn(web, number):
     many, ties = web
     names = tuple([name_drawn(place, ties[number]) for place in range(many)])
     stay = drawn_ties(ties, names, ties[number])
-    fewer = (many - 1, tuple([(low, high) for low, high, old in stay]))
-    return (fewer, names, tuple([old for low, high, old in stay]))
+    fewer = (many - 1, tuple([tie for tie, old in stay]))
+    return (fewer, names, tuple([old for tie, old in stay]))
 
 
 def taken_out(left, number):

@@ -1,6 +1,6 @@
 """Webs, their lots and places, and what hangs together by a lot."""
 
-from tiechances.errors import NoLot, NoPlaces, NoTie, NoWeb
+from tiechances.errors import NoLot, NoPlace, NoPlaces, NoTie, NoWeb
 
 MOST_PLACES = 6
 MOST_TIES = 8
@@ -78,6 +78,12 @@ def check_places(web, thing):
         raise NoPlaces("these are no places of the web")
 
 
+def check_place(web, thing):
+    """Refuse with NoPlace what is no place of the web."""
+    if not is_below(thing, web[0]):
+        raise NoPlace("this is no place of the web")
+
+
 def check_number(web, thing):
     """Refuse with NoTie what is no number of a tie of the web."""
     if not is_below(thing, len(web[1])):
@@ -87,6 +93,22 @@ def check_number(web, thing):
 def all_places(web):
     """All places of the web."""
     return tuple(range(web[0]))
+
+
+def tie_of(one, other):
+    """The tie of two unlike places, the lesser one ahead."""
+    return (min(one, other), max(one, other))
+
+
+def renamed(tie, names):
+    """The tie between the places as they are numbered by the names."""
+    a, b = tie
+    return tie_of(names[a], names[b])
+
+
+def closed_up(place, gone):
+    """The number that a place has where another one, gone, is left out."""
+    return place - 1 if place > gone else place
 
 
 def marks_by(web, lot):
